@@ -128,10 +128,11 @@ type place struct {
 type told struct {
 	units  []api.Unit
 	labels []link.Label
+	equs   map[place]api.Lin
 }
 
 func tell(units []api.Unit) told {
-	c := told{units: units}
+	c := told{units: units, equs: map[place]api.Lin{}}
 	for n, u := range units {
 		for i, x := range u.Text {
 			if x.Kind == api.Label {
@@ -242,22 +243,25 @@ func (c told) fail() link.Fail {
 	return link.Fail{}
 }
 
-// add adds an expression of that unit, so many times, to what stands in coefs, by label words, and answers its number.
-func (c told) add(unit int, x api.Lin, times uint32, coefs map[string]uint32) uint32 {
-	n := times * x.Const
+// solved answers an expression of that unit in terms of label words.
+func (c told) solved(unit int, x api.Lin) api.Lin {
+	coefs, n := map[string]uint32{}, x.Const
 	for _, t := range x.Terms {
-		if number, at, _ := c.means(unit, t.Name); number >= 0 {
-			coefs["L"+fmt.Sprint(number)] += times * t.Coef
-		} else {
-			n += c.add(at.unit, c.units[at.unit].Equs[at.equ].E, times*t.Coef, coefs)
+		number, at, _ := c.means(unit, t.Name)
+		if number >= 0 {
+			coefs[numbered("L", number)] += t.Coef
+			continue
+		}
+		e, ok := c.equs[at]
+		if !ok {
+			e = c.solved(at.unit, c.units[at.unit].Equs[at.equ].E)
+			c.equs[at] = e
+		}
+		n += t.Coef * e.Const
+		for _, u := range e.Terms {
+			coefs[u.Name] += t.Coef * u.Coef
 		}
 	}
-	return n
-}
-
-func (c told) solved(unit int, x api.Lin) api.Lin {
-	coefs := map[string]uint32{}
-	n := c.add(unit, x, 1, coefs)
 	return fromCoefs(coefs, n)
 }
 

@@ -76,13 +76,23 @@ func chain(units, equs int, last string) []api.Unit {
 func TestALongWayOverUnits(t *testing.T) {
 	for _, c := range [][2]int{{1, 8192}, {64, 1}, {64, 8192}} {
 		units, equs := c[0], c[1]
-		p := linked(t, chain(units, equs, "x")...)
+		given := chain(units, equs, "x")
+		for range 4000 {
+			// The way is not gone anew for each of these.
+			given[0].Data = append(given[0].Data, worded(expr.Named("g0")))
+		}
+		p := linked(t, given...)
 		end := expr.Named(numbered("L", units-1))
 		for n := range units {
 			l := p.Items(n, data)
 			first, last := expr.Add(end, expr.Of(uint32(units*equs))), expr.Add(end, expr.Of(uint32((units-n-1)*equs+1)))
 			if !expr.Same(l[0].E, first) || !expr.Same(l[1].E, last) {
-				t.Errorf("%d units of %d equs: %+v in %d", units, equs, l, n)
+				t.Errorf("%d units of %d equs: %s in %d", units, equs, short(l), n)
+			}
+			for _, x := range l[2:] {
+				if !expr.Same(x.E, first) {
+					t.Fatalf("%d units of %d equs: %+v in %d", units, equs, x.E, n)
+				}
 			}
 		}
 		fails(t, link.Fail{Why: api.ErrCycle, Unit: 0, Name: "g0"}, chain(units, equs, "g0")...)
@@ -134,28 +144,55 @@ func TestManyTerms(t *testing.T) {
 	}
 }
 
-// Each equ has one label more than the next one.
+// Each equ has one label more than the next one: all of them, solved, would have billions of terms, and what is asked for has few.
 func TestGatheredTerms(t *testing.T) {
-	const n = 600
-	units := make([]api.Unit, 2)
-	coefs := map[string]uint32{}
-	for i := range n {
-		name, own := numbered("e", i), expr.Add(expr.Named(numbered("x", i)), expr.Of(1))
-		if i < n-1 {
-			own = expr.Add(own, expr.Named(numbered("e", i+1)))
+	const count, each = 64, 2048
+	units := chain(count, each, "x")
+	for n := range units {
+		u := &units[n]
+		u.Text = nil
+		for i := range each {
+			u.Text = append(u.Text, label(numbered("y", i)))
+			u.Equs[i].E = expr.Add(u.Equs[i].E, expr.Named(numbered("y", i)))
 		}
-		u := &units[i%2]
-		u.Text = append(u.Text, label(numbered("x", i)))
-		u.Equs = append(u.Equs, api.Equ{Name: name, E: own})
-		u.Globals = append(u.Globals, name)
+	}
+	units[count-1].Data = append(units[count-1].Data, label("x"))
+	coefs := map[string]uint32{}
+	for i := range count*each + 1 {
 		coefs[numbered("L", i)] = 1
 	}
-	for i := range units {
-		slices.Sort(units[i].Globals)
+	p := linked(t, units...)
+	for _, n := range []int{0, 40, count - 1} {
+		l := p.Items(n, data)
+		if got, want := l[0].E, fromCoefs(coefs, count*each); !expr.Same(got, want) {
+			t.Errorf("unit %d: %s, not %s", n, short(got), short(want))
+		}
+		if got := l[1].E; len(got.Terms) != (count-1-n)*each+2 || got.Const != uint32((count-1-n)*each+1) {
+			t.Errorf("unit %d: %d terms, %d", n, len(got.Terms), got.Const)
+		}
 	}
-	units[1].Data = []api.Item{worded(expr.Named("e0"))}
-	if l := linked(t, units...).Items(1, data); !expr.Same(l[0].E, fromCoefs(coefs, n)) {
-		t.Errorf("%s", short(l))
+}
+
+// An equ of many terms stands in very many items: no answer is too long, but all of them would be together.
+func TestOneEquInManyItems(t *testing.T) {
+	const terms, words = 4000, 1500
+	units := make([]api.Unit, 64)
+	units[0] = labelled(terms)
+	units[0].Equs = []api.Equ{{Name: "all", E: sumOf("x", 0, terms, 1)}}
+	units[0].Globals = []string{"all"}
+	for n := range units {
+		for i := range words {
+			units[n].Data = append(units[n].Data, worded(expr.Add(expr.Named("all"), expr.Of(uint32(i)))))
+		}
+	}
+	p := linked(t, units...)
+	want := sumOf("L", 0, terms, 1)
+	for _, n := range []int{0, 63} {
+		for i, x := range p.Items(n, data) {
+			if x.E.Const != uint32(i) || !slices.Equal(x.E.Terms, want.Terms) {
+				t.Fatalf("unit %d, word %d: %s", n, i, short(x.E))
+			}
+		}
 	}
 }
 
